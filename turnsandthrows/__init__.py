@@ -1,0 +1,1 @@
+"""Turnsandthrows: finite machines as cascades of permutations and resets."""
