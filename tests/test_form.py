@@ -1,6 +1,7 @@
 """The interface as it is listed, and rules of the code's form that can be seen in its text."""
 
 import ast
+import builtins
 import unittest
 from pathlib import Path
 
@@ -47,6 +48,38 @@ INTERFACE = {
         "ring_of": ["machine", "count"],
         "primes": ["machine"],
     },
+    "cascade": {
+        "Cascade.__init__": ["self", "widths", "acts", "shown"],
+        "Cascade.step": ["self", "row", "letter"],
+        "Cascade.run": ["self", "row", "word"],
+        "Cascade.rows_of": ["self", "state"],
+    },
+    "judging": {
+        "first_fault": ["machine", "cascade"],
+        "turns": ["machine", "cascade", "level"],
+        "group_sizes": ["machine", "cascade"],
+    },
+    "decomposing": {
+        "decompose": ["machine"],
+    },
+    "pieces": {
+        "piece_machine": ["acts"],
+        "split": ["acts"],
+        "is_prime": ["machine", "cascade"],
+    },
+    "lines": {
+        "check_lines": ["lines"],
+        "truths": ["lines", "word"],
+        "holds": ["lines", "word"],
+    },
+    "telling": {
+        "machine_of": ["lines", "count"],
+        "lines_of": ["machine"],
+    },
+    "formulas": {
+        "read_formula": ["text"],
+        "write_formula": ["lines"],
+    },
 }
 
 LIBRARY = {
@@ -65,10 +98,45 @@ def trees():
         yield path.stem, text, ast.parse(text)
 
 
+def defined(body, prefix=""):
+    """The functions of a file, and the methods of its classes, with their arguments."""
+    for node in body:
+        if isinstance(node, ast.FunctionDef):
+            yield prefix + node.name, node.args
+        elif isinstance(node, ast.ClassDef):
+            yield from defined(node.body, node.name + ".")
+
+
+def bound_at_top(tree):
+    """The names that the file binds, and those of them that are imports or classes."""
+    names, reserved = [], []
+    for node in tree.body:
+        if isinstance(node, ast.ImportFrom):
+            reserved.extend(each.name for each in node.names)
+        elif isinstance(node, ast.ClassDef):
+            reserved.append(node.name)
+        elif isinstance(node, ast.FunctionDef):
+            names.append(node.name)
+        elif isinstance(node, ast.Assign):
+            names.extend(target.id for target in node.targets)
+    return names + reserved, reserved
+
+
+def bound_inside(tree):
+    """The parameters and local variables of the functions of the file."""
+    arguments = {node.arg for node in ast.walk(tree) if isinstance(node, ast.arg)}
+    inside = set()
+    for function in ast.walk(tree):
+        if isinstance(function, ast.FunctionDef):
+            names = [node for node in ast.walk(function) if isinstance(node, ast.Name)]
+            inside |= {name.id for name in names if isinstance(name.ctx, ast.Store)}
+    return arguments | inside
+
+
 class InterfaceTest(unittest.TestCase):
     def test_defined_in_their_files_with_their_arguments(self):
         for name, _, tree in trees():
-            found = {node.name: node.args for node in tree.body if isinstance(node, ast.FunctionDef)}
+            found = dict(defined(tree.body))
             for function, arguments in INTERFACE.get(name, {}).items():
                 with self.subTest(function):
                     self.assertEqual([each.arg for each in found[function].args], arguments)
@@ -76,6 +144,16 @@ class InterfaceTest(unittest.TestCase):
 
     def test_all_files_are_there(self):
         self.assertLessEqual({"__init__", "errors", *INTERFACE}, {name for name, _, _ in trees()})
+
+
+# What L8, L17 and L25 let be used, or bar, by name.
+BUILTINS = set("""len range enumerate zip min max sum abs sorted reversed int str bool bytes list tuple dict set
+frozenset isinstance ord repr any all divmod pow map super ValueError""".split())
+METHODS = set("""append clear copy count endswith extend find get index insert isalnum isalpha isdigit islower isspace
+isupper items join keys ljust lower lstrip partition pop remove replace reverse rfind rjust rpartition rsplit rstrip
+setdefault split splitlines startswith strip update upper values zfill bit_length add discard sort""".split())
+BARRED = set("""register mro elements open input law version_info with_traceback add_note type typing enum Enum Flag
+Generic Protocol ABC namedtuple NamedTuple TypedDict abstractmethod dataclass overload contextmanager""".split())
 
 
 class FormTest(unittest.TestCase):
@@ -113,6 +191,62 @@ class FormTest(unittest.TestCase):
             for node in tree.body:
                 if isinstance(node, (ast.FunctionDef, ast.ClassDef)):
                     self.assertEqual(node.decorator_list, [], node.name)
+
+    def test_names(self):
+        for name, _, tree in trees():
+            with self.subTest(name):
+                bound, reserved = bound_at_top(tree)
+                inside = bound_inside(tree)
+                self.assertEqual(sorted(bound), sorted(set(bound)))
+                self.assertEqual(inside & set(reserved), set())
+                self.assertEqual((inside | set(bound)) & set(dir(builtins)), set())
+                used = {node.id for node in ast.walk(tree) if isinstance(node, ast.Name)}
+                self.assertLessEqual(used & set(dir(builtins)), BUILTINS)
+                attributes = {node.attr for node in ast.walk(tree) if isinstance(node, ast.Attribute)}
+                self.assertEqual((used | inside | set(bound) | attributes) & BARRED, set())
+
+    def test_methods(self):
+        own = {each.split(".")[1] for _, _, tree in trees() for each, _ in defined(tree.body) if "." in each}
+        self.assertEqual({each for each in own if hasattr(str, each) or hasattr(list, each) or hasattr(dict, each)},
+                         {"__init__"})
+        for name, _, tree in trees():
+            calls = [node.func for node in ast.walk(tree) if isinstance(node, ast.Call)]
+            with self.subTest(name):
+                self.assertLessEqual({call.attr for call in calls if isinstance(call, ast.Attribute)}, METHODS | own)
+
+    def test_imports_name_the_file_that_defines(self):
+        files = {name: tree for name, _, tree in trees()}
+        before = {}
+        for name, tree in files.items():
+            before[name] = set()
+            for node in tree.body:
+                if isinstance(node, ast.ImportFrom) and node.module not in LIBRARY:
+                    other = node.module.split(".")[1]
+                    before[name].add(other)
+                    own, foreign = bound_at_top(files[other])
+                    classes = {each.name for each in files[other].body if isinstance(each, ast.ClassDef)}
+                    self.assertLessEqual({each.name for each in node.names}, set(own) - set(foreign) | classes)
+        # No two files import from each other: again and again one is left that imports from none of the rest.
+        while before:
+            free = [name for name in before if not before[name] & set(before)]
+            self.assertNotEqual(free, [])
+            del before[free[0]]
+
+    def test_sets_and_stars(self):
+        for name, _, tree in trees():
+            for node in ast.walk(tree):
+                with self.subTest(name, line=getattr(node, "lineno", 0)):
+                    # L24: a set is not iterated; L7: no star in an index or a set.
+                    sources = [each.iter for each in getattr(node, "generators", ())]
+                    if isinstance(node, ast.For):
+                        sources.append(node.iter)
+                    for source in sources:
+                        self.assertNotIsInstance(source, (ast.Set, ast.SetComp))
+                        self.assertNotEqual(getattr(getattr(source, "func", None), "id", ""), "set")
+                    if isinstance(node, (ast.Subscript, ast.Set)):
+                        inner = node.slice if isinstance(node, ast.Subscript) else node
+                        self.assertFalse(any(isinstance(each, ast.Starred) for each in ast.walk(inner)))
+                    self.assertNotIsInstance(node, (ast.GeneratorExp, ast.Global, ast.Yield))
 
     def test_nothing_else_in_the_folder(self):
         others = [path.name for path in PACKAGE.iterdir() if path.suffix != ".py" and path.name != "__pycache__"]
