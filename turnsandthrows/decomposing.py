@@ -72,8 +72,8 @@ def act_at(machine, bricks, letter, lot, there):
     image = lead_lot(machine, lot, letter)
     if lot in bricks and there in bricks and image == there:
         return tuple([bricks[there].index(lead_lot(machine, brick, letter)) for brick in bricks[lot]])
-    # Lots of the level come ahead of all that are led onto them from outside of it, so that
-    # the image is not all of a lot with bricks, but within one of them.
+    # A lot outside of the level that is led onto all of a lot of it had its bricks chosen at a
+    # level before; so the image is not all of a lot with bricks, but within one of them.
     places = [place for place, brick in enumerate(bricks.get(there, [there])) if is_part(image, brick)]
     return (places[0],) * width_of(bricks)
 
