@@ -80,6 +80,67 @@ INTERFACE = {
         "read_formula": ["text"],
         "write_formula": ["lines"],
     },
+    "bench": {
+        "Bench.__init__": ["self"],
+        "Bench.add": ["self", "name", "machine"],
+        "Bench.define": ["self", "name", "definition"],
+        "Bench.remove": ["self", "name"],
+        "Bench.names": ["self"],
+        "Bench.entry": ["self", "name"],
+        "Bench.users": ["self", "name"],
+        "Bench.order": ["self"],
+        "Bench.undo": ["self"],
+        "Bench.redo": ["self"],
+        "Bench.set_step": ["self", "name", "state", "letter", "target"],
+        "Bench.set_start": ["self", "name", "state"],
+        "Bench.set_good": ["self", "name", "state", "good"],
+        "Bench.add_state": ["self", "name"],
+        "Bench.drop_state": ["self", "name", "state"],
+        "Bench.add_letter": ["self", "name"],
+        "Bench.drop_letter": ["self", "name"],
+    },
+    "answers": {
+        "machine_at": ["bench", "name"],
+        "accepts_at": ["bench", "name", "word"],
+        "difference_at": ["bench", "first", "second"],
+        "ring_at": ["bench", "name"],
+        "primes_at": ["bench", "name"],
+        "cascade_at": ["bench", "name"],
+        "sentence_at": ["bench", "name"],
+    },
+    "monoid": {
+        "transformations": ["machine"],
+        "settling": ["machine"],
+    },
+    "resetting": {
+        "merging_word": ["machine", "first", "second"],
+        "apart": ["machine"],
+        "resetting_word": ["machine"],
+        "rank": ["machine"],
+    },
+    "congruences": {
+        "is_congruence": ["machine", "partition"],
+        "least_congruence": ["machine", "first", "second"],
+        "congruences": ["machine"],
+        "meet_of": ["p", "q"],
+        "join_of": ["p", "q"],
+        "quotient": ["machine", "partition"],
+        "parting": ["machine"],
+        "bound_pair": ["machine"],
+    },
+    "sides": {
+        "side_by_side": ["machine", "p", "first", "q", "second"],
+    },
+    "texts": {
+        "write_machine": ["machine"],
+        "read_machine": ["text"],
+        "write_bench": ["bench"],
+        "read_bench": ["texts"],
+    },
+    "records": {
+        "write_cascade": ["cascade"],
+        "read_cascade": ["text"],
+    },
 }
 
 LIBRARY = {
@@ -131,6 +192,11 @@ def bound_inside(tree):
             names = [node for node in ast.walk(function) if isinstance(node, ast.Name)]
             inside |= {name.id for name in names if isinstance(name.ctx, ast.Store)}
     return arguments | inside
+
+
+def own_methods():
+    """The names of the methods of the package's classes."""
+    return {each.split(".")[1] for _, _, tree in trees() for each, _ in defined(tree.body) if "." in each}
 
 
 class InterfaceTest(unittest.TestCase):
@@ -206,13 +272,46 @@ class FormTest(unittest.TestCase):
                 self.assertEqual((used | inside | set(bound) | attributes) & BARRED, set())
 
     def test_methods(self):
-        own = {each.split(".")[1] for _, _, tree in trees() for each, _ in defined(tree.body) if "." in each}
+        own = own_methods()
         self.assertEqual({each for each in own if hasattr(str, each) or hasattr(list, each) or hasattr(dict, each)},
-                         {"__init__"})
+                         {"__init__", "remove"})
         for name, _, tree in trees():
             calls = [node.func for node in ast.walk(tree) if isinstance(node, ast.Call)]
             with self.subTest(name):
                 self.assertLessEqual({call.attr for call in calls if isinstance(call, ast.Attribute)}, METHODS | own)
+
+    def test_methods_are_called_where_they_stand(self):
+        # L25: no method, an own one or one of a builtin value, is handed on, kept or returned.
+        methods = METHODS | own_methods()
+        for name, _, tree in trees():
+            called = [node.func for node in ast.walk(tree) if isinstance(node, ast.Call)]
+            for node in ast.walk(tree):
+                if isinstance(node, ast.Attribute) and node.attr in methods:
+                    with self.subTest(name, line=node.lineno, method=node.attr):
+                        self.assertTrue(any(node is call for call in called))
+
+    def test_attributes(self):
+        # L18: what is read is assigned somewhere, and no name is both a method and an attribute.
+        methods = METHODS | own_methods()
+        nodes = [node for _, _, tree in trees() for node in ast.walk(tree) if isinstance(node, ast.Attribute)]
+        stored = {node.attr for node in nodes if isinstance(node.ctx, ast.Store)}
+        self.assertEqual(stored & methods, set())
+        self.assertLessEqual({node.attr for node in nodes} - methods, stored)
+
+    def test_nothing_is_added_to_a_kept_set(self):
+        # L24: that is barred where a class has a method called so.
+        self.assertIn("add", own_methods())
+        for name, _, tree in trees():
+            kept = set()
+            for node in ast.walk(tree):
+                if isinstance(node, ast.Assign):
+                    is_call = isinstance(node.value, ast.Call) and getattr(node.value.func, "id", "") == "set"
+                    if is_call or isinstance(node.value, (ast.Set, ast.SetComp)):
+                        kept |= {target.id for target in node.targets}
+            for node in ast.walk(tree):
+                if isinstance(node, ast.Attribute) and node.attr in ("add", "discard"):
+                    with self.subTest(name, line=node.lineno):
+                        self.assertNotIn(node.value.id, kept)
 
     def test_imports_name_the_file_that_defines(self):
         files = {name: tree for name, _, tree in trees()}

@@ -50,6 +50,11 @@ def every_machine(states, letters):
                 yield (steps, start, good)
 
 
+def wheel_machine(count, letters=1):
+    """A machine that accepts the words whose number of letters is divided by the count."""
+    return (tuple(((state + 1) % count,) * letters for state in range(count)), 0, (0,))
+
+
 def every_lot(states):
     """All lots of so many states."""
     marks = product((0, 1), repeat=states)

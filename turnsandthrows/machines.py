@@ -32,7 +32,7 @@ def check_states(states, count):
     """Raise InvalidMachine if one of the integers is not a state of a machine with so many."""
     for state in states:
         if not 0 <= state < count:
-            raise InvalidMachine(f"{state} is none of the {count} states")
+            raise InvalidMachine(f"a step, the start or a good state is none of the {count} states")
 
 
 def letters_of(machine):

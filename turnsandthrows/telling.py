@@ -95,7 +95,8 @@ def lines_of(machine):
     if ring is not None:
         raise GoesRound(ring)
     cascade = decompose(told)
-    rows = list(reached(cascade.rows_of(told[1])[0], letters_of(told), cascade.step))
+    origin = cascade.rows_of(told[1])[0]
+    rows = list(reached(origin, letters_of(told), lambda row, letter: cascade.step(row, letter)))
     numbers = {}
     here = {(): number_of(numbers, ("true",))}
     for level in range(len(cascade.widths)):
